@@ -1,13 +1,15 @@
 """What each call answers. Refusals are asked for in their order, so that the one nearest to 0 is answered."""
 
 from streetroundsdesk.choices import leasts_of, odd_set, suited_set, walked_once_more
-from streetroundsdesk.cuts import is_accepted, pairs_from, told_cuts
-from streetroundsdesk.maps import all_places, length_together, places_in, reached, streets_from
-from streetroundsdesk.refusals import NOT_JOINED, NO_MAP, NO_SUCH, OUT_OF_RANGE, TOO_LONG, refused
+from streetroundsdesk.cuts import heights_of, is_accepted, pairs_from, peaks_of, told_cuts
+from streetroundsdesk.homes import MOST_HOMES, Home, best_start, found_homes, passed_places
+from streetroundsdesk.maps import MOST_STREETS, Street, all_places, length_together, places_in, reached, streets_from
+from streetroundsdesk.refusals import NOT_JOINED, NO_MAP, NO_ROOM, NO_SUCH, OUT_OF_RANGE, TOO_LONG, refused
 from streetroundsdesk.shapes import is_within
 from streetroundsdesk.walks import is_round, shares_of, told_walk
 
-MAP_CALL = 0
+# The calls for which there need be no map: map and sizes.
+WITHOUT_MAP = (0, 19)
 
 
 def yes_or_no(holds):
@@ -31,6 +33,7 @@ def answer_map(desk, call):
         return refused(NOT_JOINED)
     desk.places = places
     desk.streets = streets
+    desk.homes = []
     return [0, len(streets)]
 
 
@@ -112,6 +115,93 @@ def answer_least(desk, call):
     return [0, 1, least]
 
 
+def answer_heights(desk, call):
+    """The heights of all places, the peaks of all streets."""
+    return [0] + heights_of(desk.streets, desk.places) + peaks_of(desk.streets)
+
+
+def answer_home(desk, call):
+    """Adds a home."""
+    place = call.numbers[0]
+    if place >= desk.places:
+        return refused(NO_SUCH)
+    if len(desk.homes) >= MOST_HOMES:
+        return refused(NO_ROOM)
+    desk.homes.append(Home(place, call.numbers[1], call.numbers[2]))
+    return [0, len(desk.homes) - 1]
+
+
+def answer_homes(desk, call):
+    """All homes."""
+    answer = [0]
+    for home in desk.homes:
+        answer.extend([home.place, home.begin, home.finish])
+    return answer
+
+
+def passed_from(desk, place):
+    """What the told walk from the place passes."""
+    return passed_places(desk.streets, told_walk(desk.streets, place), place)
+
+
+def answer_found(desk, call):
+    """The homes found by the told walk."""
+    place = call.numbers[0]
+    if place >= desk.places:
+        return refused(NO_SUCH)
+    return [0] + found_homes(desk.homes, passed_from(desk, place), call.numbers[1])
+
+
+def answer_best(desk, call):
+    """When the told walk finds the most homes, and how many."""
+    place = call.numbers[0]
+    if place >= desk.places:
+        return refused(NO_SUCH)
+    return [0] + best_start(desk.homes, passed_from(desk, place), call.numbers[1])
+
+
+def answer_street(desk, call):
+    """A street as it was told, or as it was changed."""
+    if call.numbers[0] >= len(desk.streets):
+        return refused(NO_SUCH)
+    street = desk.streets[call.numbers[0]]
+    return [0, street.near, street.far, street.length, street.often]
+
+
+def answer_change(desk, call):
+    """Gives a street another length, and how often it must be walked."""
+    if call.numbers[0] >= len(desk.streets):
+        return refused(NO_SUCH)
+    street = desk.streets[call.numbers[0]]
+    street.length = call.numbers[1]
+    street.often = call.numbers[2]
+    return [0]
+
+
+def answer_add(desk, call):
+    """Adds a street."""
+    near = call.numbers[0]
+    far = call.numbers[1]
+    if near >= desk.places or far >= desk.places:
+        return refused(NO_SUCH)
+    if len(desk.streets) >= MOST_STREETS:
+        return refused(NO_ROOM)
+    desk.streets.append(Street(near, far, call.numbers[2], call.numbers[3]))
+    return [0, len(desk.streets) - 1]
+
+
+def answer_total(desk, call):
+    """How long all streets are as often as they must be walked, and how long the told walk is."""
+    must = sum([street.length * street.often for street in desk.streets])
+    # From every place the told walk has the same streets, so it is as long from place 0 as from any other.
+    return [0, must, length_together(desk.streets, told_walk(desk.streets, 0))]
+
+
+def answer_sizes(desk, call):
+    """How many places, streets and homes there are."""
+    return [0, desk.places, len(desk.streets), len(desk.homes)]
+
+
 ANSWERERS = (
     answer_map,
     answer_odd,
@@ -123,6 +213,16 @@ ANSWERERS = (
     answer_round,
     answer_share,
     answer_least,
+    answer_heights,
+    answer_home,
+    answer_homes,
+    answer_found,
+    answer_best,
+    answer_street,
+    answer_change,
+    answer_add,
+    answer_total,
+    answer_sizes,
 )
 
 
@@ -130,6 +230,6 @@ def answer_call(desk, call):
     """The answer of one call, which may change the desk."""
     if not is_within(call):
         return refused(OUT_OF_RANGE)
-    if call.number != MAP_CALL and desk.places == 0:
+    if call.number not in WITHOUT_MAP and desk.places == 0:
         return refused(NO_MAP)
     return ANSWERERS[call.number](desk, call)

@@ -1,6 +1,10 @@
-"""Streets, and the desk that keeps the map. A set of places is the sum of 2 to the p over its places p."""
+"""Streets, and the desk that keeps the map and the homes.
+
+A set of places is the sum of 2 to the p over its places p.
+"""
 
 MOST_PLACES = 7
+MOST_STREETS = 16
 
 
 class Street:
@@ -19,6 +23,7 @@ class Desk:
     def __init__(self):
         self.places = 0
         self.streets = []
+        self.homes = []
 
 
 def streets_from(row):

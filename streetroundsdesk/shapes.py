@@ -1,5 +1,7 @@
 """How calls stand in the one list, and the ranges told for their numbers. All tables go by the call's number."""
 
+HOME_CALL = 11
+
 # The least and the greatest of each whole number of a call.
 NUMBER_RANGES = (
     ((1, 7),),
@@ -12,24 +14,28 @@ NUMBER_RANGES = (
     ((0, 6),),
     ((0, 6), (0, 100000)),
     ((0, 127),),
-)
-
-# The same for a call's row, over and over; a call without a row has none.
-ROW_RANGES = (
+    (),
+    ((0, 6), (0, 100000), (0, 100000)),
+    (),
+    ((0, 6), (0, 100000)),
+    ((0, 6), (0, 200)),
+    ((0, 15),),
+    ((0, 15), (1, 1000), (1, 3)),
     ((0, 6), (0, 6), (1, 1000), (1, 3)),
     (),
     (),
-    ((0, 15),),
-    (),
-    ((0, 1000000), (0, 1000000)),
-    (),
-    ((0, 15),),
-    (),
-    (),
 )
 
-# How many numbers a call's row has at most.
-ROW_MOST = (64, 0, 0, 16, 0, 60, 0, 80, 0, 0)
+# The same for the row of each call that has one, over and over.
+ROW_RANGES = {
+    0: ((0, 6), (0, 6), (1, 1000), (1, 3)),
+    3: ((0, 15),),
+    5: ((0, 1000000), (0, 1000000)),
+    7: ((0, 15),),
+}
+
+# How many numbers such a row has at most.
+ROW_MOST = {0: 64, 3: 16, 5: 60, 7: 80}
 
 
 class Call:
@@ -51,7 +57,7 @@ def read_calls(calls):
         numbers = calls[at + 1:behind]
         row = []
         at = behind
-        if len(ROW_RANGES[number]) > 0:
+        if number in ROW_RANGES:
             at = behind + 1 + calls[behind]
             row = calls[behind + 1:at]
         told.append(Call(number, numbers, row))
@@ -76,4 +82,8 @@ def is_within(call):
     ranges = NUMBER_RANGES[call.number]
     if not fit(call.numbers, len(ranges), ranges):
         return False
-    return fit(call.row, ROW_MOST[call.number], ROW_RANGES[call.number])
+    if call.number == HOME_CALL and call.numbers[2] < call.numbers[1]:
+        return False
+    if call.number in ROW_RANGES:
+        return fit(call.row, ROW_MOST[call.number], ROW_RANGES[call.number])
+    return True
