@@ -170,7 +170,8 @@ class SeveralDueTest(unittest.TestCase):
                      (CHECK, [15, 16]), (ROUND, 7, [15]), (ROUND, 6, [16]), (SHARE, 6, -1), (SHARE, 7, 0))
         self.assertEqual(out, [[-1]] * 8)
         out = ask_on(ONE_STREET, (HOME, 6, 5, 4), (HOME, 6, 0, 100001), (FOUND, 6, -1), (FOUND, 6, 100001),
-                     (BEST, 6, 201), (CHANGE, 15, 0, 1), (CHANGE, 15, 1, 4), (ADD, 6, 7, 1, 1), (ADD, 6, 6, 1001, 1), (ADD, 2, 0, 1, 0))
+                     (BEST, 6, 201), (CHANGE, 15, 0, 1), (CHANGE, 15, 1, 4), (ADD, 6, 7, 1, 1),
+                     (ADD, 6, 6, 1001, 1), (ADD, 2, 0, 1, 0))
         self.assertEqual(out, [[-1]] * 10)
 
     def test_no_map_goes_before_no_such(self):
